@@ -1,0 +1,1 @@
+"""Peersmeet: peers on a ring that keep, lose, part and meet again."""

@@ -1,0 +1,29 @@
+"""README.md: what it shows can be done just so."""
+
+import contextlib
+import io
+import pathlib
+import re
+import unittest
+
+README = pathlib.Path(__file__).resolve().parent.parent / "README.md"
+
+
+class Readme(unittest.TestCase):
+    def test_the_example_runs(self):
+        examples = re.findall(r"```python\n(.*?)```", README.read_text(), re.DOTALL)
+        self.assertEqual(len(examples), 1)
+        printed = io.StringIO()
+        with contextlib.redirect_stdout(printed):
+            exec(examples[0], {})
+        self.assertEqual(printed.getvalue().splitlines()[-1], "['ada', 'ben']")
+
+    def test_each_file_of_the_package_is_named(self):
+        text = README.read_text()
+        for path in (README.parent / "peersmeet").glob("*.py"):
+            if path.name != "__init__.py":
+                self.assertIn(f"`peersmeet/{path.name}`", text)
+
+
+if __name__ == "__main__":
+    unittest.main()
