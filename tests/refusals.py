@@ -2,8 +2,11 @@
 
 import unittest
 
+from peersmeet.books import Book
 from peersmeet.circles import Circle
 from peersmeet.errors import Absent, Barred, PeerError
+from peersmeet.stores import Store
+from peersmeet.views import View
 
 
 def any_things():
@@ -12,7 +15,7 @@ def any_things():
         None, True, False, 0, 1, -1, 256, 10 ** 29, -(10 ** 29),
         "", "a", "Ab", "abcdefghi", "a b", "a\n", "\n", "100%", " " * 61, "x" * 200,
         [], (), {}, [None], (None,), ["a"], ("a",), ("a", 0), ["a", 0], {"a": 1}, {1: "a", None: []},
-        [[[[[[[["a"]]]]]]]], ("a", 1, "b", None), Circle([("a", 0)]),
+        [[[[[[[["a"]]]]]]]], ("a", 1, "b", None), Circle([("a", 0)]), Store(), Book(), View("a", 0),
     ]
 
 

@@ -16,7 +16,7 @@ class Readme(unittest.TestCase):
         printed = io.StringIO()
         with contextlib.redirect_stdout(printed):
             exec(examples[0], {})
-        self.assertEqual(printed.getvalue().splitlines()[-1], "['ada', 'ben']")
+        self.assertEqual(printed.getvalue().splitlines()[-1], "ada 10 1 here; ben 100 1 here; cy 200 1 here")
 
     def test_each_file_of_the_package_is_named(self):
         text = README.read_text()
