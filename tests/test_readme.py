@@ -16,7 +16,10 @@ class Readme(unittest.TestCase):
         printed = io.StringIO()
         with contextlib.redirect_stdout(printed):
             exec(examples[0], {})
-        self.assertEqual(printed.getvalue().splitlines()[-1], "ada 10 1 here; ben 100 1 here; cy 200 1 here")
+        lines = printed.getvalue().splitlines()
+        self.assertEqual(lines[-2], "ada 10 1 here; ben 100 1 here; cy 200 1 here")
+        known = [("ada", 10, 1, "here"), ("ben", 100, 1, "silent"), ("cy", 200, 1, "here")]
+        self.assertEqual(lines[-1], f"2 {known} ada 10, cy 200")
 
     def test_each_file_of_the_package_is_named(self):
         text = README.read_text()
