@@ -4,6 +4,11 @@ from peersmeet.circles import Circle
 from peersmeet.errors import NoCircle, NoList, NoTruth, NotThere
 from peersmeet.marks import is_list, need_place, way_on
 
+# The words of steps: by the keeper itself, once the way arrived, and until then.
+MINE = "mine"
+BACK = "back"
+ON = "on"
+
 
 def need_way(circle, name, place):
     """Refuse what is no circle, no name of it, no place."""
@@ -14,10 +19,14 @@ def need_way(circle, name, place):
     need_place(place)
 
 
+def lies_between(middle, start, place):
+    """Whether the middle lies behind the start, and ahead of a place, all of them places."""
+    return 0 < way_on(start, middle) < way_on(start, place)
+
+
 def stands_between(circle, name, other, place):
     """Whether the peer of the name stands between the other peer and a place."""
-    start = circle.place(other)
-    return 0 < way_on(start, circle.place(name)) < way_on(start, place)
+    return lies_between(circle.place(name), circle.place(other), place)
 
 
 def farthest_finger(circle, name, place):
@@ -40,12 +49,12 @@ def step_of(circle, name, place, *, without=(), arrived=False):
     known = circle.without([thing for thing in without if thing != name])
     keeper = known.keeper(place)
     if keeper == name:
-        return ("mine", name, known.place(name))
+        return (MINE, name, known.place(name))
     if arrived:
-        return ("back", keeper, known.place(keeper))
+        return (BACK, keeper, known.place(keeper))
     finger = farthest_finger(known, name, place)
     told = keeper if finger is None else finger
-    return ("on", told, known.place(told))
+    return (ON, told, known.place(told))
 
 
 def way_of(circle, name, place):

@@ -12,14 +12,16 @@ README = pathlib.Path(__file__).resolve().parent.parent / "README.md"
 class Readme(unittest.TestCase):
     def test_the_example_runs(self):
         examples = re.findall(r"```python\n(.*?)```", README.read_text(), re.DOTALL)
-        self.assertEqual(len(examples), 1)
+        self.assertEqual(len(examples), 2)
         printed = io.StringIO()
         with contextlib.redirect_stdout(printed):
-            exec(examples[0], {})
+            exec("".join(examples), {})
         lines = printed.getvalue().splitlines()
-        self.assertEqual(lines[-2], "ada 10 1 here; ben 100 1 here; cy 200 1 here")
+        self.assertEqual(lines[-5], "ada 10 1 here; ben 100 1 here; cy 200 1 here")
         known = [("ada", 10, 1, "here"), ("ben", 100, 1, "silent"), ("cy", 200, 1, "here")]
-        self.assertEqual(lines[-1], f"2 {known} ada 10, cy 200")
+        self.assertEqual(lines[-4], f"2 {known} ada 10, cy 200")
+        told = (["cy", "ada"], [], [])
+        self.assertEqual(lines[-3:], ["['ada', 'cy'] True", f"True {told}", "blue moon over"])
 
     def test_each_file_of_the_package_is_named(self):
         text = README.read_text()
