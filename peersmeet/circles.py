@@ -1,6 +1,6 @@
 """Circles of peers on the ring: who keeps a place, which stretch, and which fingers."""
 
-from peersmeet.errors import NoList, NoPeers, NotThere, Twice
+from peersmeet.errors import NoCircle, NoList, NoPeers, NotThere, Twice
 from peersmeet.marks import MOST_COPIES, MOST_PEERS, RING
 from peersmeet.marks import is_list, need_name, need_place, need_whole, place_behind, way_on
 
@@ -115,3 +115,23 @@ class Circle:
         """Refuse what is no name of the circle."""
         if not self.has(name):
             raise NotThere(name)
+
+
+def need_circle(thing):
+    """Refuse what is no circle."""
+    if not isinstance(thing, Circle):
+        raise NoCircle(thing)
+
+
+def need_name_of(circle, name):
+    """Refuse what is no circle, and what is no name of it."""
+    need_circle(circle)
+    if not circle.has(name):
+        raise NotThere(name)
+
+
+def others_round(circle, name):
+    """All names of a circle but one, a list round from the one behind it."""
+    names = circle.names()
+    at = names.index(name)
+    return names[at + 1:] + names[:at]

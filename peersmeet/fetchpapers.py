@@ -18,12 +18,17 @@ def takes_row(fetch, row):
         return False
 
 
-def shows_fetch(card, claims, rows, *, had=None, seen=None):
-    """Whether any thing is a list of the rows of a fetch made so that has ended."""
+def walked_fetch(card, claims, rows, had, seen):
+    """The fetch made so whose rows any thing is, where it has ended; else None."""
     fetch = Fetch(card, claims, had=had, seen=seen)
     if not is_list(rows):
-        return False
+        return None
     for row in rows:
         if not takes_row(fetch, row):
-            return False
-    return fetch.ended()
+            return None
+    return fetch if fetch.ended() else None
+
+
+def shows_fetch(card, claims, rows, *, had=None, seen=None):
+    """Whether any thing is a list of the rows of a fetch made so that has ended."""
+    return walked_fetch(card, claims, rows, had, seen) is not None

@@ -8,6 +8,7 @@ from peersmeet.peers import Peer
 from peersmeet.talking import keeps_card, keeps_piece, talk
 from peersmeet.views import GONE, HERE, SILENT
 
+PIECES = "pieces"
 STEPS = "steps"
 SILENCE = "silence"
 LIES = ("pieces", "steps", "silence")

@@ -1,7 +1,7 @@
 """Ways round a circle: one step, a whole way, and whether a list of names shows one."""
 
-from peersmeet.circles import Circle
-from peersmeet.errors import NoCircle, NoList, NoTruth, NotThere
+from peersmeet.circles import need_name_of
+from peersmeet.errors import NoList, NoTruth
 from peersmeet.marks import is_list, need_place, way_on
 
 # The words of steps: by the keeper itself, once the way arrived, and until then.
@@ -12,10 +12,7 @@ ON = "on"
 
 def need_way(circle, name, place):
     """Refuse what is no circle, no name of it, no place."""
-    if not isinstance(circle, Circle):
-        raise NoCircle(circle)
-    if not circle.has(name):
-        raise NotThere(name)
+    need_name_of(circle, name)
     need_place(place)
 
 

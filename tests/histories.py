@@ -3,7 +3,11 @@
 import random
 
 from peersmeet.circles import Circle
+from peersmeet.cries import Cries
 from peersmeet.errors import Absent, Barred, PeerError
+from peersmeet.fetching import fetch_in
+from peersmeet.finds import find_in
+from peersmeet.looks import look, put, seek
 from peersmeet.nets import Net
 from peersmeet.talking import keeps_card, keeps_piece
 from peersmeet.things import card_of, greater, pieces_of
@@ -11,8 +15,6 @@ from peersmeet.things import card_of, greater, pieces_of
 NAMES = ["ada", "ben", "cy", "dan", "eve", "fay", "gil", "hal"]
 KEYS = ["a", "key", "m", "zz"]
 TEXTS = [None, "", "abc", "12345678", "a text of some more pieces", "x" * 60, "bdb", "cbc"]
-DEEDS = ("enter enter enter leave stop back back cut heal heal lie lie turn turn turn round rest "
-         "word word card card card card").split()
 
 
 def going(net):
@@ -83,11 +85,15 @@ def kept(net, name):
 class History:
     """A net to which deeds are done, as a seed has them."""
 
+    kind = Net
+    words = ("enter enter enter leave stop back back cut heal heal lie lie turn turn turn round rest "
+             "word word card card card card").split()
+
     def __init__(self, seed, called=None):
         self.chance = random.Random(seed)
         self.called = {name: name for name in NAMES} if called is None else called
         self.places = {name: self.chance.choice([0, 50, self.chance.randrange(256)]) for name in NAMES}
-        self.net = Net(self.chance.randint(1, 4))
+        self.net = self.kind(self.chance.randint(1, 4))
         self.net.begin(self.called["ada"], self.places["ada"])
 
     def order(self):
@@ -97,7 +103,7 @@ class History:
 
     def deed(self):
         """The next deed; refused ones are passed over."""
-        word = self.chance.choice(DEEDS)
+        word = self.chance.choice(self.words)
         try:
             getattr(self, "do_" + word)(self.chance.choice(self.net.names()))
         except (PeerError, Absent, Barred):
@@ -153,3 +159,61 @@ class History:
         for at, piece in enumerate([] if text is None else pieces_of(text)):
             if peer.card(card[0]) == card and self.chance.random() < 0.8:
                 peer.takes_piece(card[0], at, piece)
+
+
+class Deeds(History):
+    """A history of all deeds that there are, to which nothing else is done."""
+
+    kind = Cries
+    words = ("enter enter enter leave stop back back cut heal heal lie lie turn turn round rest "
+             "say say say come come come lose double flow put put put put look seek find find fetch fetch").split()
+
+    def __init__(self, seed, called=None):
+        History.__init__(self, seed, called)
+        # Of each card the texts that were put with it, and all texts that were found, each with its card.
+        self.put_cards = {}
+        self.found = []
+        self.said = []
+
+    def number(self):
+        """The number of some letter, or of none."""
+        return self.chance.choice([number for number, _ in self.net.under_way()] + [self.chance.randint(1, 5)])
+
+    def any_card(self):
+        never = card_of("m", 1, self.called["ada"], text="what was never put")
+        return self.chance.choice(list(self.put_cards) + [never])
+
+    def do_say(self, name):
+        self.said.append(self.net.say(name, self.chance.choice(["hi", "", "a = b"])))
+
+    def do_come(self, name):
+        self.net.come(self.number())
+
+    def do_lose(self, name):
+        self.net.lose(self.number())
+
+    def do_double(self, name):
+        self.net.double(self.number())
+
+    def do_flow(self, name):
+        self.net.flow()
+
+    def do_put(self, name):
+        text = self.chance.choice(TEXTS)
+        card, _, _ = put(self.net, name, self.chance.choice(KEYS), text)
+        self.put_cards.setdefault(card, []).append(text)
+
+    def do_look(self, name):
+        look(self.net, name, self.chance.choice(KEYS))
+
+    def do_seek(self, name):
+        seek(self.net, name, self.chance.randrange(256))
+
+    def do_find(self, name):
+        text, paper = find_in(self.net, name, self.chance.choice(KEYS))
+        self.found.append((paper[1][0], text))
+
+    def do_fetch(self, name):
+        card = self.any_card()
+        text, _ = fetch_in(self.net, name, card)
+        self.found.append((card, text))

@@ -11,7 +11,7 @@ PACKAGE = TOP / "peersmeet"
 
 BUILTINS = set(
     "len range enumerate zip min max sum abs sorted reversed int str bool bytes list tuple dict set isinstance ord "
-    "repr any all divmod Exception ValueError TypeError KeyError IndexError LookupError".split()
+    "repr any all divmod super Exception ValueError TypeError KeyError IndexError LookupError".split()
 )
 METHODS = set(
     "append clear copy count endswith extend find get index insert isalnum isalpha isdigit islower isspace isupper "
