@@ -19,8 +19,8 @@ AWAY = "away"
 WITH_TEXT = ("put", "say")
 # All words behind these are one thing together.
 WITH_NAMES = ("cut", "round", "rest")
-# A number of thirty figures, the greatest.
-MOST_HANDED = 10 ** 30 - 1
+# The greatest number of thirty figures.
+MOST_HANDED = 999999999999999999999999999999
 
 KEPT = "kept"
 LOST = "lost"
@@ -157,7 +157,7 @@ def texts_of(word, words):
     """The texts of the things of a deed, by the words behind its first one, a list."""
     if word == "fetch":
         return words[:1] + [" ".join(words[1:])]
-    if word in WITH_NAMES and words:
+    if word in WITH_NAMES:
         return [" ".join(words)]
     return words
 

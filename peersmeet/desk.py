@@ -2,7 +2,7 @@
 
 from peersmeet.cries import Cries
 from peersmeet.deedtext import NONE, card_text, deed_in, deed_text
-from peersmeet.errors import NoLine, NoList, NoPeer
+from peersmeet.errors import NoLine, NoList
 from peersmeet.marks import is_list, is_name, is_place, number_in, words_in
 from peersmeet.nettext import do_deed
 
@@ -125,11 +125,10 @@ class Desk:
         if question is None:
             raise NoLine(line)
         word, *parts = question
-        if not parts:
-            return answer_of_net(self._net, word)
-        if not self._net.has(parts[0]):
-            raise NoPeer(parts[0])
-        return answer_of_peer(self._net, word, parts)
+        if parts:
+            # A name of no peer is refused by the Cries.
+            return answer_of_peer(self._net, word, parts)
+        return answer_of_net(self._net, word)
 
     def say_all(self, lines):
         """Say lines, one behind the other; the answers are a list of lists of texts."""

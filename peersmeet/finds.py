@@ -6,7 +6,7 @@ from peersmeet.fetchpapers import walked_fetch
 from peersmeet.lookpapers import is_tuple, shows_look
 from peersmeet.looks import looked, need_asker, need_standing
 from peersmeet.marks import need_name
-from peersmeet.things import greatest, is_card
+from peersmeet.things import greatest
 
 
 def find_in(net, asker, key):
@@ -28,7 +28,7 @@ def find_in(net, asker, key):
 def is_greatest(thing, told):
     """Whether a thing is the greatest card that a look was told, by rows (name, card or None)."""
     cards = [card for _, card in told if card is not None]
-    return is_card(thing) and len(cards) > 0 and thing == greatest(cards)
+    return len(cards) > 0 and thing == greatest(cards)
 
 
 def text_fetched(card, claims, had, seen, rows):

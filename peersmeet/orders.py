@@ -107,7 +107,7 @@ class Moment:
         if not any([is_same(step, one) for one in self.steps()]):
             raise NotThere(step)
         word, what = step
-        moment = Moment(self._net, (), losses=0, doubles=0)
+        moment = Moment(self._net, ())
         moment._rows = self._rows
         moment._done = self._done
         moment._left = self._left

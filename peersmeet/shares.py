@@ -2,8 +2,7 @@
 
 from peersmeet.circles import need_circle, need_name_of
 from peersmeet.errors import NoNumber
-from peersmeet.marks import MOST_COPIES, RING
-from peersmeet.marks import is_whole, need_whole, place_behind
+from peersmeet.marks import RING, is_whole, place_behind
 
 # The greatest number in a factor.
 MOST_FACTOR = 999
@@ -19,7 +18,7 @@ def is_factor(thing):
 
 
 def keepers_of_all(circle, copies):
-    """The keepers of each place of the ring, a list of lists of names."""
+    """The keepers of each place of the ring, a list of lists of names; refused are copies that are none."""
     return [circle.keepers(place, copies) for place in range(RING)]
 
 
@@ -33,14 +32,12 @@ def share(circle, name):
 def load(circle, name, *, copies=1):
     """Of how many places a peer is one of the keepers."""
     need_name_of(circle, name)
-    need_whole(copies, 1, MOST_COPIES)
     return len([keepers for keepers in keepers_of_all(circle, copies) if name in keepers])
 
 
 def loads(circle, *, copies=1):
     """The loads of all peers, a list of (name, load) in their order."""
     need_circle(circle)
-    need_whole(copies, 1, MOST_COPIES)
     rows = keepers_of_all(circle, copies)
     return [(name, len([keepers for keepers in rows if name in keepers])) for name in circle.names()]
 
@@ -75,7 +72,6 @@ def handed(one, other, *, copies=1):
     """What the other circle gains and loses of the one: a list of rows (first, many, gained, lost), rising."""
     need_circle(one)
     need_circle(other)
-    need_whole(copies, 1, MOST_COPIES)
     changes = [
         (lacking_in(behind, ahead), lacking_in(ahead, behind))
         for ahead, behind in zip(keepers_of_all(one, copies), keepers_of_all(other, copies))

@@ -4,9 +4,14 @@ import unittest
 
 from peersmeet.books import Book
 from peersmeet.circles import Circle
+from peersmeet.cries import Cries
+from peersmeet.desk import Desk
 from peersmeet.errors import Absent, Barred, PeerError
+from peersmeet.fetches import Fetch
 from peersmeet.nets import Net
+from peersmeet.orders import Moment
 from peersmeet.peers import Peer
+from peersmeet.roads import Roads
 from peersmeet.stores import Store
 from peersmeet.views import View
 from peersmeet.wrongs import Wrongs
@@ -19,7 +24,7 @@ def any_things():
         "", "a", "Ab", "abcdefghi", "a b", "a\n", "\n", "100%", " " * 61, "x" * 200,
         [], (), {}, [None], (None,), ["a"], ("a",), ("a", 0), ["a", 0], {"a": 1}, {1: "a", None: []},
         [[[[[[[["a"]]]]]]]], ("a", 1, "b", None), Circle([("a", 0)]), Store(), Book(), View("a", 0),
-        Wrongs(), Peer("a", 0), Net(),
+        Wrongs(), Peer("a", 0), Net(), Fetch(("a", 1, "b", ()), {}), Roads(), Cries(), Moment(Cries(), []), Desk(),
     ]
 
 

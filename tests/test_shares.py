@@ -9,9 +9,10 @@ from peersmeet import shares
 from peersmeet.circles import Circle
 from peersmeet.errors import NoCircle, NoNumber, NotThere
 from peersmeet.looks import put
-from peersmeet.marks import piece_place, place_of
+from peersmeet.marks import piece_place
 from peersmeet.nets import Net
 from peersmeet.shares import fair_place, handed, keeps_within, load, loads, share
+from peersmeet.things import card_places
 from tests.histories import KEYS, NAMES, TEXTS, circle_of
 from tests.refusals import RefusalCase
 
@@ -239,6 +240,7 @@ class Handed(RefusalCase):
                 self.assertEqual(sum(row[1] for row in rows), load(more, "zoe", copies=copies))
 
     def test_in_a_net_at_rest_just_such_things_move(self):
+        many = 0
         for seed in range(40):
             chance = random.Random(seed)
             net = Net(chance.randint(1, 4))
@@ -259,20 +261,24 @@ class Handed(RefusalCase):
             for first, many, names, others in handed(circle, circle_of(net, net.standing()), copies=net.copies()):
                 for way in range(many):
                     gained[(first + way) % 256], lost[(first + way) % 256] = names, others
+            moved = 0
             for name in net.standing():
-                # Of a piece that is new there, or no more, the place is one that was handed on.
-                for key, at, piece in behind[name] - ahead.get(name, set()):
-                    self.assertIn(name, gained[piece_place(key, at)])
-                for key, at, piece in ahead.get(name, set()) - behind[name]:
-                    self.assertIn(name, lost[piece_place(key, at)])
-            for name in net.standing():
-                for key in KEYS:
-                    if net.peer(name).card(key) is None and name in gained.get(place_of(key), ()):
-                        self.assertIsNone(max([net.peer(one).card(key) for one in net.standing()], key=bool))
+                # What is new there, or no more, lies at a place that was handed on; a card at one of its places.
+                for things, some in ((behind[name] - ahead.get(name, set()), gained), (ahead.get(name, set()) - behind[name], lost)):
+                    for places in things:
+                        moved += 1
+                        self.assertTrue([place for place in places[1] if name in some.get(place, ())], (name, places))
+            many += moved > 0
+        self.assertGreater(many, 20)
 
     def kept(self, net):
-        return {name: {(key, at, piece) for key in net.peer(name).cards() for at, piece in net.peer(name).pieces(key).items()}
-                for name in net.standing()}
+        """Of each that stands what it has: each piece with its place, each card with all its places."""
+        told = {}
+        for name in net.standing():
+            peer = net.peer(name)
+            told[name] = {((key, at), (piece_place(key, at),)) for key in peer.cards() for at in peer.pieces(key)}
+            told[name] |= {(card, tuple(card_places(card))) for card in peer.cards().values()}
+        return told
 
     def test_refused_in_the_order_of_the_interface(self):
         self.refuses_all_but(NoCircle, is_circle, lambda thing: handed(thing, None, copies=0))
